@@ -80,8 +80,19 @@ func hex(t uint32) string {
 	return strings.Repeat("0", 8-len(text)) + text
 }
 
-// TestFirst: the way of P4.1, the first calls may come together, and each tells the tag; what an octet does is made once.
-func TestFirst(t *testing.T) {
+// TestStep: the way of P4.1, what each octet does to a register is as the document's words say it.
+func TestStep(t *testing.T) {
+	for c := range 256 {
+		// Behind its one octet, the register at first has 00ffffff, and what that octet, turned over, does to it.
+		octet := byte(c)
+		if got, want := ^(uint32(0xffffff) ^ Step(^octet)), slow(string([]byte{octet})); got != want {
+			t.Errorf("Step(%d): tag %08x, want %08x", ^octet, got, want)
+		}
+	}
+}
+
+// TestStepFirst: the way of P4.1, the array is made once, by whichever of the first calls, and these may come together; Step reads it.
+func TestStepFirst(t *testing.T) {
 	for range 20 {
 		made, steps = sync.Once{}, [256]uint32{}
 		got := make([]uint32, 16)
@@ -90,21 +101,59 @@ func TestFirst(t *testing.T) {
 			all.Add(1)
 			go func() {
 				defer all.Done()
-				got[i] = More(slow("1234"), "56789")
+				got[i] = Step(128)
 			}()
 		}
 		all.Wait()
 		for i, n := range got {
-			if n != 0xe3069283 {
+			if n != 0x82f63b78 {
 				t.Fatalf("call %d of the first: %08x", i, n)
 			}
 		}
 	}
-	steps[0] = 1
-	if got := Of("\xff"); got != 0xff000001 {
-		t.Errorf("what an octet does was made again: %08x", got)
+	steps[128] = 1
+	if got := Step(128); got != 1 {
+		t.Errorf("the array was made again, or is not read: %08x", got)
 	}
-	steps[0] = 0
+	made = sync.Once{}
+}
+
+// TestBesideSteps: P4.1, P4.2, no answer hangs on the array: neither on whether it is made, nor on what stands in it.
+func TestBesideSteps(t *testing.T) {
+	for _, spoil := range []func(){
+		func() { made, steps = sync.Once{}, [256]uint32{} },
+		func() { Step(0) },
+		func() {
+			for i := range steps {
+				steps[i] = uint32(i) * 0x9e3779b9
+			}
+		},
+	} {
+		spoil()
+		was := steps
+		if got := Of("123456789"); got != 0xe3069283 {
+			t.Errorf("Of: %08x", got)
+		}
+		if got := More(slow("12345"), "6789"); got != 0xe3069283 {
+			t.Errorf("More: %08x", got)
+		}
+		if got := Text(0xe3069283); got != "e3069283" {
+			t.Errorf("Text: %q", got)
+		}
+		if got, e := Parse("e3069283"); got != 0xe3069283 || e != api.OK {
+			t.Errorf("Parse: %08x, %d", got, e)
+		}
+		if got, e := Many([]uint32{0x31323334, 0x35363738}); got != laid([]uint32{0x31323334, 0x35363738}) || e != api.OK {
+			t.Errorf("Many: %q, %d", got, e)
+		}
+		if got, n, e := Read("e3069283-9"); got != 0xe3069283 || n != 9 || e != api.OK {
+			t.Errorf("Read: %08x, %d, %d", got, n, e)
+		}
+		if steps != was {
+			t.Error("the array is another one behind the calls")
+		}
+	}
+	made = sync.Once{}
 }
 
 // TestOf: P4.1, tags that are known, and each octet, alone and behind others.
