@@ -19,7 +19,8 @@ const (
 	mostText   = 4000
 	mostNotes  = 100
 	mostRecord = 12000
-	around     = 26 // octets of a note's list beside its Name and its Val
+	counted    = 2  // octets of how many texts a record's list has
+	around     = 24 // octets of a note's four texts beside its Name and its Val
 )
 
 // brief is the beginning of how a value is told.
@@ -52,18 +53,21 @@ func list(l ...string) string {
 	return string(out)
 }
 
-// wantLay is the octets of notes, as the document's words say it.
-func wantLay(l ...api.Note) string {
-	var s string
+// wantTexts is the four texts of each note, note behind note.
+func wantTexts(l ...api.Note) []string {
+	var texts []string
 	for _, n := range l {
 		flag := uint64(0)
 		if n.C.Gone {
 			flag = 1
 		}
-		s += list(eight(n.Stamp), n.C.Name, eight(flag), n.C.Val)
+		texts = append(texts, eight(n.Stamp), n.C.Name, eight(flag), n.C.Val)
 	}
-	return s
+	return texts
 }
+
+// wantLay is the octets of notes, as the document's words say it.
+func wantLay(l ...api.Note) string { return list(wantTexts(l...)...) }
 
 // wantMay says whether a note may be, as the document's words say it.
 func wantMay(n api.Note) bool {
@@ -94,13 +98,16 @@ func (c *cutter) text() string {
 
 // wantTake is the notes of octets, and whether they are a record's, read octet by octet.
 func wantTake(s string) ([]api.Note, bool) {
-	whole := len(s)
+	if len(s) < counted || len(s) > mostRecord {
+		return nil, false
+	}
+	texts := int(s[0]) + int(s[1])*256
+	if texts%4 != 0 || texts < 4 || texts > 4*mostNotes {
+		return nil, false
+	}
+	c := cutter{s: s[counted:]}
 	var l []api.Note
-	for c := (&cutter{s: s}); c.s != ""; {
-		if !strings.HasPrefix(c.s, "\x04\x00") {
-			return nil, false
-		}
-		c.s = c.s[2:]
+	for range texts / 4 {
 		stamp, name, flag, val := c.text(), c.text(), c.text(), c.text()
 		if c.bad || len(stamp) != 8 || flag != eight(0) && flag != eight(1) {
 			return nil, false
@@ -111,7 +118,7 @@ func wantTake(s string) ([]api.Note, bool) {
 		}
 		l = append(l, n)
 	}
-	return l, len(l) >= 1 && len(l) <= mostNotes && whole <= mostRecord
+	return l, c.s == ""
 }
 
 // wantCount is the notes that count: those than which none of their name has a greater stamp, or, behind them, the same one.
@@ -233,8 +240,13 @@ func TestLayByHand(t *testing.T) {
 		{[]api.Note{is(258, "a", "xy")}, "\x04\x00\x08\x00\x02\x01\x00\x00\x00\x00\x00\x00\x01\x00a\x08\x00\x00\x00\x00\x00\x00\x00\x00\x00\x02\x00xy"},
 		{[]api.Note{gone(1, "ab")}, "\x04\x00\x08\x00\x01\x00\x00\x00\x00\x00\x00\x00\x02\x00ab\x08\x00\x01\x00\x00\x00\x00\x00\x00\x00\x00\x00"},
 		{[]api.Note{is(math.MaxUint64, "\x00", "")}, "\x04\x00\x08\x00\xff\xff\xff\xff\xff\xff\xff\xff\x01\x00\x00\x08\x00\x00\x00\x00\x00\x00\x00\x00\x00\x00\x00"},
-		{[]api.Note{is(2, "b", "x"), gone(1, "a")}, "\x04\x00\x08\x00\x02\x00\x00\x00\x00\x00\x00\x00\x01\x00b\x08\x00\x00\x00\x00\x00\x00\x00\x00\x00\x01\x00x" +
-			"\x04\x00\x08\x00\x01\x00\x00\x00\x00\x00\x00\x00\x01\x00a\x08\x00\x01\x00\x00\x00\x00\x00\x00\x00\x00\x00"},
+		{[]api.Note{is(2, "b", "x"), gone(1, "a")}, "\x08\x00" +
+			"\x08\x00\x02\x00\x00\x00\x00\x00\x00\x00\x01\x00b\x08\x00\x00\x00\x00\x00\x00\x00\x00\x00\x01\x00x" +
+			"\x08\x00\x01\x00\x00\x00\x00\x00\x00\x00\x01\x00a\x08\x00\x01\x00\x00\x00\x00\x00\x00\x00\x00\x00"},
+		{[]api.Note{is(1, "a", "x"), gone(2, "a"), is(1, "b", "y")}, "\x0c\x00" +
+			"\x08\x00\x01\x00\x00\x00\x00\x00\x00\x00\x01\x00a\x08\x00\x00\x00\x00\x00\x00\x00\x00\x00\x01\x00x" +
+			"\x08\x00\x02\x00\x00\x00\x00\x00\x00\x00\x01\x00a\x08\x00\x01\x00\x00\x00\x00\x00\x00\x00\x00\x00" +
+			"\x08\x00\x01\x00\x00\x00\x00\x00\x00\x00\x01\x00b\x08\x00\x00\x00\x00\x00\x00\x00\x00\x00\x01\x00y"},
 	} {
 		if got, e := Lay(c.l); got != c.want || e != api.OK {
 			t.Errorf("Lay(%s): %q, %d, want %q", brief(c.l), got, e, c.want)
@@ -247,18 +259,22 @@ func TestLayByHand(t *testing.T) {
 
 // filled is a record of three notes, that has so many octets.
 func filled(octets int) []api.Note {
-	left := octets - 3*(around+1) - 2*3970
+	left := octets - counted - 3*(around+1) - 2*3970
 	return []api.Note{is(1, "a", strings.Repeat("x", 3970)), is(1, "b", strings.Repeat("y", 3970)), is(1, "c", strings.Repeat("z", left))}
+}
+
+// hundred is a record of 100 notes, that has so many octets: but for the last one they have 119 each.
+func hundred(octets int) []api.Note {
+	left := octets - counted - 99*119 - around - 4
+	return append(slices.Repeat([]api.Note{is(7, "name", strings.Repeat("v", 119-around-4))}, mostNotes-1), is(7, "name", strings.Repeat("v", left)))
 }
 
 // records may be laid; each edge is there.
 func records() [][]api.Note {
 	may, _ := notesToMay()
 	all := [][]api.Note{
-		filled(mostRecord), filled(mostRecord - 1),
+		filled(mostRecord), filled(mostRecord - 1), hundred(mostRecord), hundred(mostRecord - 1),
 		slices.Repeat([]api.Note{is(1, "a", "")}, mostNotes), slices.Repeat([]api.Note{gone(9, "a")}, mostNotes-1),
-		// 100 notes of 120 octets are just as many as may be.
-		slices.Repeat([]api.Note{is(7, "name", strings.Repeat("v", 120-around-4))}, mostNotes),
 		{is(1, "b", "x"), is(3, "a", "y"), is(2, "a", "z"), gone(3, "a"), is(1, "b", "x")},
 	}
 	for _, n := range may {
@@ -283,8 +299,10 @@ func TestRoundTrip(t *testing.T) {
 			t.Fatalf("Lay(%s): what was handed in is %s now", brief(was), brief(l))
 		}
 	}
-	if s, _ := Lay(filled(mostRecord)); len(s) != mostRecord {
-		t.Errorf("the greatest record has %d octets", len(s))
+	for _, l := range [][]api.Note{filled(mostRecord), hundred(mostRecord)} {
+		if s, _ := Lay(l); len(s) != mostRecord {
+			t.Errorf("a greatest record of %d notes has %d octets", len(l), len(s))
+		}
 	}
 }
 
@@ -302,8 +320,7 @@ func TestLayRefuses(t *testing.T) {
 		}
 	}
 	for _, l := range [][]api.Note{
-		filled(mostRecord + 1), {large, large, large}, {small, large, large, large}, slices.Repeat([]api.Note{large}, mostNotes),
-		slices.Repeat([]api.Note{is(7, "name", strings.Repeat("v", 120-around-3))}, mostNotes),
+		filled(mostRecord + 1), hundred(mostRecord + 1), {large, large, large}, {small, large, large, large}, slices.Repeat([]api.Note{large}, mostNotes),
 	} {
 		if s, e := Lay(l); s != "" || e != api.ErrLarge {
 			t.Errorf("Lay(%s): %s, %d", brief(l), brief(s), e)
@@ -319,40 +336,67 @@ func refused(t *testing.T, s string) {
 	}
 }
 
-// TestTakeRefuses: P12.1, octets that are no record's, each for one reason.
+// TestTakeRefuses: P12.1, octets that are no list, or that of other texts than a record's, each for one reason.
 func TestTakeRefuses(t *testing.T) {
 	good := wantLay(is(5, "a", "x"))
 	for _, s := range []string{
-		"", "\x00", "\x00\x00", "\x04\x00", "\xff\xff", "\x04", "x", "\x01\x00\x01\x00a", "\xa0\x0f", "\xa1\x0f",
-		list(), list(""), list("", "", "", ""), list(eight(5), "a", eight(0)), list(eight(5), "a", eight(0), "x", ""), list(eight(5), "a", eight(0), "x", "y"),
-		list(eight(5)[:7], "a", eight(0), "x"), list(eight(5)+"\x00", "a", eight(0), "x"), list("", "a", eight(0), "x"), list("5", "a", eight(0), "x"),
-		list(eight(5), "a", eight(2), "x"), list(eight(5), "a", eight(2), ""), list(eight(5), "a", eight(256), ""), list(eight(5), "a", eight(1<<63), ""), list(eight(5), "a", eight(math.MaxUint64), ""),
-		list(eight(5), "a", "", "x"), list(eight(5), "a", "\x00", "x"), list(eight(5), "a", "\x01", ""), list(eight(5), "a", "0", "x"),
-		list(eight(5), "a", eight(0)[:7], "x"), list(eight(5), "a", eight(0)+"\x00", "x"), list(eight(5), "a", eight(1)[:7], ""), list(eight(5), "a", eight(1)+"\x00", ""),
-		list("a", eight(5), eight(0), "x"), list(eight(5), eight(0), "a", "x"),
-		"\x00\x00" + good, good + "\x00\x00", good + "\x00", good + "x", good + list(""), good[:2] + "\x00\x00" + good[2:],
+		"", "\x00", "\x00\x00", "\x04\x00", "\xff\xff", "\x04", "x", "\x01\x00\x01\x00a", "\xa0\x0f", "\xa1\x0f", list(), list(""),
+		good[counted:], "\x00\x00" + good, good + "\x00\x00", good + "\x00", good + "x", good + list(""), good[:counted] + "\x00\x00" + good[counted:],
+		"\x00" + good[1:], "\x01" + good[1:], "\x03" + good[1:], "\x05" + good[1:], "\x08" + good[1:], "\x04\x01" + good[counted:],
 	} {
 		refused(t, s)
-		if s != "" {
-			refused(t, s+good+good)
-			refused(t, good+s)
-		}
 	}
-	_, mayNot := notesToMay()
-	for _, n := range mayNot {
-		refused(t, wantLay(n))
-		refused(t, wantLay(is(5, "a", "x"), n))
-	}
-	for i := range len(good) {
-		refused(t, good[:i])
-		refused(t, good+good[:max(i, 1)])
+	two := wantLay(is(5, "a", "x"), gone(6, "b"))
+	for i := range len(two) {
+		refused(t, two[:i])
+		refused(t, two+two[:i+1])
 	}
 	refused(t, wantLay(filled(mostRecord+1)...))
-	refused(t, strings.Repeat(wantLay(is(1, "a", "")), mostNotes+1))
-	refused(t, strings.Repeat(wantLay(is(1, "a", strings.Repeat("x", mostText))), 3))
+	refused(t, wantLay(hundred(mostRecord+1)...))
+	refused(t, wantLay(slices.Repeat([]api.Note{is(1, "a", "")}, mostNotes+1)...))
+	refused(t, wantLay(slices.Repeat([]api.Note{is(1, "a", "")}, 1000)...))
+	refused(t, wantLay(slices.Repeat([]api.Note{is(1, "a", "")}, 1001)...))
+	refused(t, wantLay(slices.Repeat([]api.Note{is(1, "a", strings.Repeat("x", mostText))}, 3)...))
 	refused(t, strings.Repeat(good, 100000))
 	refused(t, strings.Repeat("\x00", 1<<20))
 	refused(t, strings.Repeat("\xff", 1<<20))
+}
+
+// TestTakeRefusesTexts: P12.1, lists of which four texts are no note that may be, or are too few, or too many, wherever they stand.
+func TestTakeRefusesTexts(t *testing.T) {
+	a, b := wantTexts(is(5, "a", "x")), wantTexts(gone(6, "b"))
+	bad := [][]string{
+		{""}, {"", "", "", ""}, {eight(5)}, {eight(5), "a"}, {eight(5), "a", eight(0)}, {eight(5), "a", eight(0), "x", ""}, {eight(5), "a", eight(0), "x", "y"},
+		{"", eight(5), "a", eight(0), "x"}, {eight(5)[:7], "a", eight(0), "x"}, {eight(5) + "\x00", "a", eight(0), "x"}, {"", "a", eight(0), "x"}, {"5", "a", eight(0), "x"},
+		{eight(5), "a", eight(2), "x"}, {eight(5), "a", eight(2), ""}, {eight(5), "a", eight(256), ""}, {eight(5), "a", eight(1 << 63), ""}, {eight(5), "a", eight(math.MaxUint64), ""},
+		{eight(5), "a", "", "x"}, {eight(5), "a", "\x00", "x"}, {eight(5), "a", "\x01", ""}, {eight(5), "a", "0", "x"},
+		{eight(5), "a", eight(0)[:7], "x"}, {eight(5), "a", eight(0) + "\x00", "x"}, {eight(5), "a", eight(1)[:7], ""}, {eight(5), "a", eight(1) + "\x00", ""},
+		{"a", eight(5), eight(0), "x"}, {eight(5), eight(0), "a", "x"}, {wantLay(is(5, "a", "x"))},
+	}
+	_, mayNot := notesToMay()
+	for _, n := range mayNot {
+		bad = append(bad, wantTexts(n))
+	}
+	for _, texts := range bad {
+		refused(t, list(texts...))
+		refused(t, list(slices.Concat(texts, a, b)...))
+		refused(t, list(slices.Concat(a, texts, b)...))
+		refused(t, list(slices.Concat(a, b, texts)...))
+	}
+}
+
+// TestRecordIsOneList: P12.1, notes laid each as a list of its own, one behind the other, are no record.
+func TestRecordIsOneList(t *testing.T) {
+	for _, l := range records() {
+		var lists string
+		for _, n := range l {
+			lists += wantLay(n)
+		}
+		if len(l) > 1 {
+			refused(t, lists)
+			refused(t, wantLay(l[:1]...)+wantLay(l[1:]...))
+		}
+	}
 }
 
 // TestTakeByChance: P12.1, records with octets changed, cut out and put in, some of which are other records.
